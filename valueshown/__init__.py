@@ -1,0 +1,1 @@
+"""Where a name's value lies while one steps through made code."""
