@@ -1,5 +1,6 @@
 """Values and sources that several tests hand in."""
 
+from valueshown.made import Made
 from valueshown.sources import Source
 
 
@@ -36,3 +37,33 @@ DOC_BLOCKS = [("a", (("set", "x", "f", ("i",)), ("copy", "y", "x")), ("return", 
 def doc_source():
     """The source of the document's examples."""
     return Source(list(DOC_BLOCKS), ["i"])
+
+
+def doc_made():
+    """The made code of the document's examples."""
+    return Made(doc_source(), {"a": (("set", "p", "f", ("q",)), ("return", "p"))}, {"a": (0, 2)}, {"i": "q"})
+
+
+def ring_source():
+    """A source of three blocks: two in a ring, and one that returns."""
+    return Source([
+        ("a", (("set", "x", "f", ("i", "j")), ("copy", "y", "x")), ("either", "b", "c")),
+        ("b", (("set", "x", "g", ("x",)), ("set", "i", "h", ()), ("set", "x", "g", ("x",))), ("either", "c", "a")),
+        ("c", (), ("return", "x")),
+    ], ["i", "j"])
+
+
+def ring_parts():
+    """What a made code for the ring's source is made from, each part new."""
+    blocks = {
+        "a": (("call", "r", "f", ("p", "q"), ("p", "e")), ("copy", "s", "r")),
+        "b": (("set", "r", "g", ("r",)), ("call", "p", "h", (), ("r", "s"))),
+        "c": (("return", "r"),),
+    }
+    labels = {"a": (0, 1, 2), "b": (1, 0, 3), "c": (0,)}
+    return blocks, labels, {"i": "p", "j": "q"}
+
+
+def ring_made():
+    """A made code for the ring's source, with two entries."""
+    return Made(ring_source(), *ring_parts(), entries=("e", "d"))

@@ -59,6 +59,15 @@ def is_return(value):
     return _begins(value, "return", 2) and is_name(value[1])
 
 
+def is_entry(value, places):
+    """Whether any value shows something: one of the places, or a tuple of an operation and at most two of them."""
+    if not isinstance(value, tuple):
+        return is_among(value, places)
+    if not 1 <= len(value) <= 1 + MOST_OPERANDS or not is_name(value[0]):
+        return False
+    return all([is_among(place, places) for place in value[1:]])
+
+
 def reads(row):
     """The tuple of the names, or places, that a row reads, as they stand in it."""
     if row[0] == "copy":
@@ -80,7 +89,7 @@ def kept(row):
 
 def words_in(row):
     """The tuple of all names, or places, in a row."""
-    return (sets(row), *reads(row), *kept(row))
+    return (sets(row),) + reads(row) + kept(row)
 
 
 def ascending(words):
