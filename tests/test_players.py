@@ -65,6 +65,11 @@ class NamedTest(unittest.TestCase):
         walk = Walk(ring_made(), ["a", "b", "a"])
         self.assertEqual(walk.named(2), {"i": I_B, "j": J, "x": op("f", I_B, J), "y": op("f", I_B, J)})
 
+    def test_late_where_nothing_lies_nowhere(self):
+        made = Made(Source([("a", (), ("go", "a"))], ["i"]), {"a": ()}, {"a": (0,)}, {"i": "p"})
+        self.assertEqual(Walk(made, ["a"]).late(0), {"i": None})
+        self.assertEqual(Walk(made, ["a"]).shown(("a", 0), ("k", "p")), op("k", I))
+
     def test_late(self):
         walk = Walk(ring_made(), ["a"])
         for index in range(3):

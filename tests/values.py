@@ -67,3 +67,19 @@ def ring_parts():
 def ring_made():
     """A made code for the ring's source, with two entries."""
     return Made(ring_source(), *ring_parts(), entries=("e", "d"))
+
+
+def unreached_source():
+    """A source with two blocks to which no way leads."""
+    return Source([
+        ("a", (("copy", "x", "i"),), ("either", "a", "c")),
+        ("b", (("set", "y", "f", ("x",)),), ("go", "d")),
+        ("c", (), ("return", "x")),
+        ("d", (), ("return", "y")),
+    ], ["i"])
+
+
+def unreached_made():
+    """A made code for it, whose unreached return is of a place that has nothing to do with it."""
+    blocks = {"a": (), "b": (("set", "q", "k", ()),), "c": (("return", "p"),), "d": (("return", "q"),)}
+    return Made(unreached_source(), blocks, {"a": (1,), "b": (0, 1), "c": (0,), "d": (0,)}, {"i": "p"})

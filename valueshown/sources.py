@@ -18,6 +18,7 @@ class Source:
         self.inputs = tuple(inputs)
         self._blocks = tuple([entry[0] for entry in blocks])
         self._parts = {name: (rows, end) for name, rows, end in blocks}
+        self._names = _names_in(blocks, self.inputs)
 
     def __contains__(self, x):
         return is_among(x, self._parts)
@@ -59,13 +60,7 @@ class Source:
 
     def names(self):
         """The ascending list of the names."""
-        names = list(self.inputs)
-        for rows, end in self._parts.values():
-            for row in rows:
-                names.extend(words_in(row))
-            if is_return(end):
-                names.append(end[1])
-        return ascending(names)
+        return list(self._names)
 
     def reached(self):
         """The list of the blocks to which ways lead, by fewest blocks, then as ends lead to them."""
@@ -79,6 +74,17 @@ class Source:
                     found.append(block)
                     newest.append(block)
         return found
+
+
+def _names_in(blocks, inputs):
+    """The tuple of all names, ascending."""
+    names = list(inputs)
+    for _, rows, end in blocks:
+        for row in rows:
+            names.extend(words_in(row))
+        if is_return(end):
+            names.append(end[1])
+    return tuple(ascending(names))
 
 
 def _blocks_in(end):

@@ -51,8 +51,14 @@ class Pool:
             self._terms.append(self._built(part))
         return self._numbers[part]
 
+    def known(self, part):
+        """The number of a term, or, if it has none so far, what it was given as, which is no number."""
+        return self._numbers.get(part, part)
+
     def term(self, number):
-        """The term with a number."""
+        """The term with a number, or the one that is given as a part."""
+        if isinstance(number, tuple):
+            return self._built(number)
         return self._terms[number]
 
     def _built(self, part):

@@ -21,6 +21,11 @@ def is_index(value, most):
     return isinstance(value, int) and not isinstance(value, bool) and 0 <= value <= most
 
 
+def begins(value, word, size):
+    """Whether any value is a tuple of this size, with the word as its first item."""
+    return isinstance(value, tuple) and len(value) == size and is_among(value[0], (word,))
+
+
 def is_name(value):
     """Whether any value is a name."""
     if not isinstance(value, str) or not 1 <= len(value) <= MOST_LETTERS:
@@ -35,28 +40,28 @@ def are_unlike_names(value):
 
 def is_row(value):
     """Whether any value is a row of a source."""
-    if _begins(value, "set", 4):
+    if begins(value, "set", 4):
         return _gives(value)
-    return _begins(value, "copy", 3) and is_name(value[1]) and is_name(value[2])
+    return begins(value, "copy", 3) and is_name(value[1]) and is_name(value[2])
 
 
 def is_made_row(value):
     """Whether any value is a row of a made code."""
-    if _begins(value, "call", 5):
+    if begins(value, "call", 5):
         return _gives(value) and are_unlike_names(value[4])
     return is_row(value)
 
 
 def is_end(value):
     """Whether any value is an end."""
-    if _begins(value, "either", 3):
+    if begins(value, "either", 3):
         return is_name(value[1]) and is_name(value[2]) and value[1] != value[2]
-    return is_return(value) or (_begins(value, "go", 2) and is_name(value[1]))
+    return is_return(value) or (begins(value, "go", 2) and is_name(value[1]))
 
 
 def is_return(value):
     """Whether any value is an end that returns a name, or a place."""
-    return _begins(value, "return", 2) and is_name(value[1])
+    return begins(value, "return", 2) and is_name(value[1])
 
 
 def is_entry(value, places):
@@ -96,11 +101,6 @@ def ascending(words):
     """The ascending list of some strings."""
     # By str it is plain that strings alone are sorted, which LANGUAGE.md asks for where a class has an order.
     return sorted(set([str(word) for word in words]))
-
-
-def _begins(value, word, size):
-    """Whether any value is a tuple of this size, with the word as its first item."""
-    return isinstance(value, tuple) and len(value) == size and is_among(value[0], (word,))
 
 
 def _are_names(value):
