@@ -3,7 +3,7 @@
 import random
 import unittest
 
-from tests.brute import random_mark, random_made, some_made, term_of, terms_at, value_of_ways, walks_to
+from tests.brute import random_mark, some_made, term_of, terms_at, value_of_ways, walks_to
 from tests.values import ODD_VALUES, LikeAll, doc_made, ring_made
 from valueshown.errors import BadMark, BadStop, BadWay, TooMany, UnknownBlock
 from valueshown.leads import led, led_to
@@ -12,7 +12,7 @@ from valueshown.players import Walk
 from valueshown.shapes import Shape, marks_of
 from valueshown.sources import Source
 from valueshown.standing import Standing, always, unlike_way
-from valueshown.ways import check_way
+from valueshown.ways import check_way, shortest
 
 MOST = 6
 
@@ -305,13 +305,15 @@ class AlwaysTest(unittest.TestCase):
         self.assertTrue(always(standing, ("b", 0), place("p"), place("q")) is True)
         self.assertEqual(unlike_way(standing, ("b", 0), place("p"), op("f", place("q"))), None)
 
-    def test_big_made_codes(self):
-        rng = random.Random(8)
-        for _ in range(10):
-            made = random_made(rng)
+    def test_operations_of_no_operands(self):
+        for made in some_made(8, 10):
             standing = Standing(made)
             for stop in made.all_stops():
                 self.assertTrue(always(standing, stop, op("h"), op("h")))
+                self.assertEqual(always(standing, stop, op("h"), op("k")), stop[0] not in made.source.reached())
+                way = unlike_way(standing, stop, op("h"), op("h", op("h")))
+                least = shortest(made.source, stop[0])
+                self.assertEqual(way and len(way), least and len(least))
 
 
 if __name__ == "__main__":
