@@ -20,6 +20,7 @@ BARRED_WORDS = re.compile(
 )
 BARRED_NAMES = {"register", "mro", "elements", "open", "input", "law", "version_info", "eval", "exec", "id", "type"}
 TAKE_LISTS = ("any", "all", "min", "max", "sum", "sorted")
+CHANGING = set("append clear extend insert pop remove reverse setdefault update sort add discard".split())
 
 
 def all_nodes():
@@ -29,7 +30,89 @@ def all_nodes():
             yield path.name, node
 
 
+def functions():
+    """Each function of the package that stands in no other one."""
+    for path in FILES:
+        tree = ast.parse(path.read_text(encoding="utf-8"))
+        for part in tree.body:
+            for node in part.body if isinstance(part, ast.ClassDef) else [part]:
+                if isinstance(node, ast.FunctionDef):
+                    yield path.name, node
+
+
+def roots(node):
+    """The names and attributes that a value is, or may be, by itself or by what goes over it."""
+    if isinstance(node, ast.Name):
+        return {node.id}
+    if isinstance(node, ast.Attribute):
+        return {"." + node.attr}
+    if isinstance(node, ast.IfExp):
+        return roots(node.body) | roots(node.orelse)
+    if isinstance(node, ast.BoolOp):
+        return set().union(*[roots(part) for part in node.values])
+    if isinstance(node, ast.Call):
+        if getattr(node.func, "id", None) in ("enumerate", "zip", "reversed", "iter"):
+            return set().union(*[roots(part) for part in node.args])
+        if getattr(node.func, "attr", None) in ("items", "keys", "values"):
+            return roots(node.func.value)
+    return set()
+
+
+def same_names(function):
+    """The dict from the names of a function to the sets of those that may be the same value, by an assignment."""
+    same = {}
+    for node in ast.walk(function):
+        pairs = []
+        if isinstance(node, ast.Assign):
+            for target in node.targets:
+                if isinstance(target, ast.Tuple) and isinstance(node.value, ast.Tuple):
+                    pairs.extend(zip(target.elts, node.value.elts))
+                pairs.append((target, node.value))
+        for target, value in pairs:
+            for name in roots(target):
+                group = {name}.union(*[same.get(other, {other}) for other in {name} | roots(value)])
+                same.update({other: group for other in group})
+    return same
+
+
+def changed_in(nodes):
+    """The names and attributes that are changed, not just assigned, in some nodes."""
+    found = set()
+    for node in [inner for part in nodes for inner in ast.walk(part)]:
+        if isinstance(node, ast.Call) and getattr(node.func, "attr", None) in CHANGING:
+            found |= roots(node.func.value)
+        if isinstance(node, ast.Subscript) and isinstance(node.ctx, (ast.Store, ast.Del)):
+            found |= roots(node.value)
+        if isinstance(node, ast.AugAssign):
+            found |= roots(node.target)
+    return found
+
+
+def loops(function):
+    """The loops and comprehensions of a function: what each goes over, and what is done in it."""
+    for node in ast.walk(function):
+        if isinstance(node, ast.For):
+            yield node.iter, node.body + node.orelse
+        for part in getattr(node, "generators", []):
+            yield part.iter, [node]
+
+
 class LanguageTest(unittest.TestCase):
+    def test_loops_do_not_change_what_they_go_over(self):
+        for name, function in functions():
+            same = same_names(function)
+            for walked, inner in loops(function):
+                changed = changed_in(inner)
+                for root in roots(walked):
+                    self.assertFalse(changed & same.get(root, {root}), (name, function.name, walked.lineno))
+
+    def test_a_name_that_takes_over_is_seen(self):
+        function = ast.parse(
+            "def f(xs):\n  while xs:\n    led = []\n    for x in xs:\n      led.append(x)\n    xs = led\n"
+        ).body[0]
+        walked, inner = list(loops(function))[0]
+        self.assertTrue(changed_in(inner) & same_names(function)["xs"])
+
     def test_the_folder_contains_files_of_python_only(self):
         names = [path.name for path in PACKAGE.iterdir() if path.name != "__pycache__"]
         self.assertEqual(sorted(names), [path.name for path in FILES])

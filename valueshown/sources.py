@@ -65,14 +65,11 @@ class Source:
     def reached(self):
         """The list of the blocks to which ways lead, by fewest blocks, then as ends lead to them."""
         found = [self._blocks[0]]
-        newest = list(found)
-        while newest:
-            led_to = [block for name in newest for block in self.nexts(name)]
-            newest = []
-            for block in led_to:
-                if block not in found:
-                    found.append(block)
-                    newest.append(block)
+        done = 0
+        while done < len(found):
+            further = [block for block in self.nexts(found[done]) if block not in found]
+            done += 1
+            found.extend(further)
         return found
 
 

@@ -32,12 +32,12 @@ def shortest(source, block):
     if block not in source:
         raise UnknownBlock(block)
     found = {}
-    newest = [source.blocks()[:1]]
-    while newest:
-        led_to = []
-        for way in newest:
-            if way[-1] not in found:
-                found[way[-1]] = way
-                led_to.extend([[*way, further] for further in source.nexts(way[-1])])
-        newest = led_to
+    todo = [source.blocks()[:1]]
+    done = 0
+    while done < len(todo):
+        way = todo[done]
+        done += 1
+        if way[-1] not in found:
+            found[way[-1]] = way
+            todo.extend([[*way, further] for further in source.nexts(way[-1])])
     return found.get(block)
