@@ -152,3 +152,53 @@ def some_tables(seed, many):
     """Many tables of small made codes, always the same ones."""
     rng = random.Random(seed)
     return [random_table(rng, random_made(rng)) for _ in range(many)]
+
+
+def renamed(made, words):
+    """A made code with other words for names, blocks, operations and places, by a dict for all of them."""
+    def row_of(row):
+        if row[0] == "copy":
+            return ("copy", words[row[1]], words[row[2]])
+        new = (row[0], words[row[1]], words[row[2]], tuple(words[word] for word in row[3]))
+        return new + tuple(tuple(words[word] for word in part) for part in row[4:])
+
+    def end_of(end):
+        return (end[0], *[words[word] for word in end[1:]])
+
+    source = made.source
+    parts = [(words[block], tuple(map(row_of, source.rows(block))), end_of(source.end(block)))
+             for block in source.blocks()]
+    codes, labels = {}, {}
+    for block in source.blocks():
+        back = made.returned(block)
+        codes[words[block]] = tuple(map(row_of, made.rows(block))) + ((("return", words[back]),) if back else ())
+        labels[words[block]] = made.labels(block)
+    lies = {words[name]: words[made.place_of(name)] for name in source.inputs}
+    new = Source(parts, [words[name] for name in source.inputs])
+    return Made(new, codes, labels, lies, entries=tuple(words[place] for place in made.entries))
+
+
+def words_of(made):
+    """All words of a made code."""
+    found = set(made.source.names()) | set(made.source.blocks()) | set(made.places())
+    for block in made.source.blocks():
+        found |= {row[2] for row in made.source.rows(block) + made.rows(block) if row[0] != "copy"}
+    return sorted(found)
+
+
+def entry_renamed(entry, words):
+    return tuple(words[word] for word in entry) if isinstance(entry, tuple) else words[entry]
+
+
+def told_on_all(made, stop, name, walks):
+    """The list of the tellings that tell a name on all of some walks to the block of a stop."""
+    label = made.label(stop)
+    return [
+        entry for entry in tellings(made)
+        if all(walk.shown(stop, entry) == walk.named(label)[name] for walk in walks)
+    ]
+
+
+def few_rounds(all_made, most=5):
+    """Those made codes for which all ways of at most so many blocks tell all that stands."""
+    return [made for made in all_made if len(Standing(made)) <= most]

@@ -20,6 +20,7 @@ BARRED_WORDS = re.compile(
 )
 BARRED_NAMES = {"register", "mro", "elements", "open", "input", "law", "version_info", "eval", "exec", "id", "type"}
 TAKE_LISTS = ("any", "all", "min", "max", "sum", "sorted")
+ITERATING = "list tuple dict sorted sum any all enumerate zip min max reversed".split()
 CHANGING = set("append clear extend insert pop remove reverse setdefault update sort add discard".split())
 
 
@@ -117,6 +118,75 @@ class LanguageTest(unittest.TestCase):
         names = [path.name for path in PACKAGE.iterdir() if path.name != "__pycache__"]
         self.assertEqual(sorted(names), [path.name for path in FILES])
         self.assertIn("__init__.py", names)
+
+    def test_no_two_files_import_from_each_other(self):
+        imports = {}
+        for path in FILES:
+            tree = ast.parse(path.read_text(encoding="utf-8"))
+            imports[path.stem] = {
+                node.module.split(".")[1] for node in ast.walk(tree) if isinstance(node, ast.ImportFrom)
+            }
+        while imports:
+            free = [name for name, needed in imports.items() if not needed & set(imports)]
+            self.assertTrue(free, imports)
+            imports = {name: needed for name, needed in imports.items() if name not in free}
+
+    def test_imports_are_used_and_stay(self):
+        for path in FILES:
+            tree = ast.parse(path.read_text(encoding="utf-8"))
+            bound = {alias.name for node in ast.walk(tree) if isinstance(node, ast.ImportFrom) for alias in node.names}
+            used = {node.id for node in ast.walk(tree) if isinstance(node, ast.Name)}
+            self.assertEqual(bound - used, set(), path.name)
+            bound |= {node.name for node in tree.body if isinstance(node, ast.ClassDef)}
+            for node in ast.walk(tree):
+                if isinstance(node, ast.arg):
+                    self.assertNotIn(node.arg, bound, path.name)
+                if isinstance(node, ast.Name) and isinstance(node.ctx, ast.Store):
+                    self.assertNotIn(node.id, bound, (path.name, node.lineno))
+
+    def test_static_methods_have_names_of_their_own(self):
+        static = {
+            node.name for _, node in all_nodes()
+            if isinstance(node, ast.FunctionDef) and any(getattr(part, "id", "") == "staticmethod"
+                                                         for part in node.decorator_list)
+        }
+        self.assertEqual(static, {"plain", "opening"})
+        for name, node in all_nodes():
+            if isinstance(node, ast.Attribute) and isinstance(node.ctx, ast.Store):
+                self.assertNotIn(node.attr, static, name)
+
+    def test_no_name_is_a_method_and_an_attribute_of_one_class(self):
+        for name, node in all_nodes():
+            if isinstance(node, ast.ClassDef):
+                methods = {part.name for part in node.body if isinstance(part, ast.FunctionDef)}
+                stored = {
+                    part.attr for part in ast.walk(node)
+                    if isinstance(part, ast.Attribute) and isinstance(part.ctx, ast.Store)
+                    and getattr(part.value, "id", "") == "self"
+                }
+                properties = {
+                    part.name for part in node.body if isinstance(part, ast.FunctionDef) and part.decorator_list
+                }
+                self.assertEqual(methods & stored - properties, set(), (name, node.name))
+
+    def test_ranges_and_the_like_are_iterated_at_once(self):
+        for path in FILES:
+            tree = ast.parse(path.read_text(encoding="utf-8"))
+            fine = set()
+            for node in ast.walk(tree):
+                if isinstance(node, ast.For):
+                    fine.add(node.iter)
+                for part in getattr(node, "generators", []):
+                    fine.add(part.iter)
+                if isinstance(node, ast.Call) and getattr(node.func, "id", None) in ITERATING:
+                    fine.update(node.args)
+                if isinstance(node, ast.Call) and getattr(node.func, "attr", None) == "join":
+                    fine.update(node.args)
+            for node in ast.walk(tree):
+                if isinstance(node, ast.Call):
+                    called = getattr(node.func, "id", None) or getattr(node.func, "attr", None)
+                    if called in ("range", "zip", "enumerate", "reversed", "items", "keys", "values"):
+                        self.assertIn(node, fine, (path.name, node.lineno))
 
     def test_characters_and_lengths(self):
         for path in FILES:

@@ -90,24 +90,27 @@ def _shapes(made, rows):
     reached = made.source.reached()
     if not isinstance(rows, list) or len(rows) != len(reached):
         return None
+    marks = marks_of(made)
     shapes = {}
     for row in rows:
         if not isinstance(row, tuple) or len(row) != 2 or not is_among(row[0], reached):
             return None
-        shape = _shape(made, row[1])
+        shape = _shape(marks, row[1])
         if shape is None or row[0] in shapes:
             return None
         shapes[row[0]] = shape
     return shapes
 
 
-def _shape(made, value):
-    """The shape with any value, or None if it is none for the marks of a made code."""
+def _shape(marks, value):
+    """The shape with any value, or None if it is none for some marks."""
+    if not isinstance(value, tuple):
+        return None
     try:
         shape = Shape(value)
     except BadShape:
         return None
-    return shape if shape.all_marks() == marks_of(made) else None
+    return shape if shape.all_marks() == marks else None
 
 
 def _lead_on(made, shapes):

@@ -1,54 +1,44 @@
-"""What rows do to the values of marks, whatever stands for the values."""
+"""What rows do to the nodes at which marks stand, row by row."""
 
-from valueshown.nodes import OPEN, numbered
+from valueshown.nodes import Pile
 from valueshown.words import kept, reads, sets
 
 
-def past_row(values, row, meaning):
-    """The dict from marks to values behind a row of a source."""
-    name = sets(row)
-    given = _given(row, [values[("name", word)] for word in reads(row)], meaning)
-    return {**values, ("late", name): values[("name", name)], ("name", name): given}
+class Board:
+    """The nodes at which marks stand, while rows are done.
 
+    The positions are a dict from marks to indexes of `spots`, which tell their
+    nodes. Places may have a kind of their own, for a made code beside another.
+    """
 
-def past_made_row(values, row, meaning, losing):
-    """The dict from marks to values behind a row of a made code; losing gives a value for each lost place."""
-    given = _given(row, [values[("place", word)] for word in reads(row)], meaning)
-    changes = {mark: losing() for mark in values if mark[0] == "place" and _loses(row, mark[1])}
-    return {**values, **changes, ("place", sets(row)): given}
+    def __init__(self, graph, positions):
+        self.pile = Pile(graph[0])
+        self.spots = list(graph[1])
+        self._positions = positions
 
+    def led_graph(self):
+        """The graph as it is now; it need not be neat, and may have nodes too many."""
+        return (self.pile.nodes, self.spots)
 
-def led_graph(graph, marks, rows, made_rows):
-    """The graph to which rows of both programs lead from a neat one; it is not neat, it may have nodes too many."""
-    nodes = list(graph[0])
-    numbers = numbered(nodes)
+    def do_row(self, row):
+        """Do a row of a source."""
+        given = self._given(row, "name")
+        at = self._positions[("name", sets(row))]
+        self.spots[self._positions[("late", sets(row))]] = self.spots[at]
+        self.spots[at] = given
 
-    def meaning(operation, operands):
-        part = ("op", operation, operands)
-        if part not in numbers:
-            numbers[part] = len(nodes)
-            nodes.append(part)
-        return numbers[part]
+    def do_made_row(self, row, kind):
+        """Do a row of a made code, whose places have a kind."""
+        given = self._given(row, kind)
+        if row[0] == "call":
+            for mark, at in self._positions.items():
+                if mark[0] == kind and mark[1] != sets(row) and mark[1] not in kept(row):
+                    self.spots[at] = self.pile.opened()
+        self.spots[self._positions[(kind, sets(row))]] = given
 
-    def losing():
-        nodes.append(OPEN)
-        return len(nodes) - 1
-
-    values = {mark: spot for mark, spot in zip(marks, graph[1])}
-    for row in rows:
-        values = past_row(values, row, meaning)
-    for row in made_rows:
-        values = past_made_row(values, row, meaning, losing)
-    return (nodes, [values[mark] for mark in marks])
-
-
-def _loses(row, place):
-    """Whether a row loses a place."""
-    return row[0] == "call" and place != sets(row) and place not in kept(row)
-
-
-def _given(row, operands, meaning):
-    """The value of what a row sets."""
-    if row[0] == "copy":
-        return operands[0]
-    return meaning(row[2], tuple(operands))
+    def _given(self, row, kind):
+        """The node of what a row sets."""
+        operands = [self.spots[self._positions[(kind, word)]] for word in reads(row)]
+        if row[0] == "copy":
+            return operands[0]
+        return self.pile.given(row[2], tuple(operands))

@@ -1,9 +1,9 @@
 """What rows lead to from a shape."""
 
 from valueshown.errors import BadRow
-from valueshown.leading import led_graph
-from valueshown.nodes import neat
-from valueshown.shapes import Shape, graph_of, with_marks
+from valueshown.leading import Board
+from valueshown.nodes import Known, neat
+from valueshown.shapes import Shape
 from valueshown.words import is_made_row, is_row, sets, words_in
 
 
@@ -23,7 +23,7 @@ def behind_made(shape, row):
 
 def led(shape, made, block):
     """The shape behind all rows of a block, of both programs."""
-    return led_to(shape, made, made.stops(block)[-1])
+    return _led(shape, made.source.rows(block), made.rows(block))
 
 
 def led_to(shape, made, stop):
@@ -35,16 +35,20 @@ def led_to(shape, made, stop):
 
 def _led(shape, rows, made_rows):
     """The shape to which rows of both programs lead; raises BadRow(row) if it does not have all marks of a row."""
+    marks, graph = shape.known()
+    positions = {mark: at for at, mark in enumerate(marks)}
+    board = Board(graph, positions)
     for row in rows:
-        _check_marks(shape, row, [("name", name) for name in words_in(row)] + [("late", sets(row))])
-    for row in made_rows:
-        _check_marks(shape, row, [("place", place) for place in words_in(row)])
-    marks = shape.all_marks()
-    return Shape(with_marks(neat(led_graph(graph_of(shape), marks, rows, made_rows)), marks))
-
-
-def _check_marks(shape, row, marks):
-    """Raise an error for a row if a shape does not have some marks of it."""
-    for mark in marks:
-        if mark not in shape:
+        if ("late", sets(row)) not in positions or not _has_all(positions, "name", row):
             raise BadRow(row)
+        board.do_row(row)
+    for row in made_rows:
+        if not _has_all(positions, "place", row):
+            raise BadRow(row)
+        board.do_made_row(row, "place")
+    return Shape(Known(marks, neat(board.led_graph())))
+
+
+def _has_all(positions, kind, row):
+    """Whether all words in a row are among some marks, with a kind."""
+    return all([(kind, word) in positions for word in words_in(row)])

@@ -62,6 +62,12 @@ class Made:
         """The list of the stops of all blocks, in the order of the source."""
         return [stop for block in self.source.blocks() for stop in self.stops(block)]
 
+    def is_stop(self, value):
+        """Whether any value is a stop."""
+        if not isinstance(value, tuple) or len(value) != 2 or not is_among(value[0], self._labels):
+            return False
+        return is_index(value[1], len(self._labels[value[0]]) - 1)
+
     def label(self, stop):
         """The label of a stop."""
         self._check_stop(stop)
@@ -117,9 +123,7 @@ class Made:
 
     def _check_stop(self, stop):
         """Raise an error for any value that is no stop."""
-        if not isinstance(stop, tuple) or len(stop) != 2 or stop[0] not in self.source:
-            raise BadStop(stop)
-        if not is_index(stop[1], len(self.rows(stop[0]))):
+        if not self.is_stop(stop):
             raise BadStop(stop)
 
 

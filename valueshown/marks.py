@@ -3,7 +3,7 @@
 A plain mark is one of the first three kinds: a late name, a name or a place.
 """
 
-from valueshown.words import MOST_OPERANDS, ascending, begins, is_among, is_name
+from valueshown.words import MOST_OPERANDS, begins, is_among, is_name
 
 # The kinds of the plain marks, as marks ascend.
 KINDS = ("late", "name", "place")
@@ -15,9 +15,10 @@ def is_plain_mark(value):
 
 
 def is_mark(value, known):
-    """Whether any value is a mark that has in it only plain marks of a dict."""
-    if is_plain_mark(value):
-        return value in known
+    """Whether any value is a mark that has in it only plain marks among some."""
+    if isinstance(value, tuple) and len(value) == 2:
+        # What is known are tuples of strings; others may tell themselves equal to them.
+        return isinstance(value[0], str) and isinstance(value[1], str) and value in known
     return is_operation(value) and all([is_mark(part, known) for part in value[2]])
 
 
@@ -28,17 +29,8 @@ def is_operation(value):
     return isinstance(value[2], tuple) and len(value[2]) <= MOST_OPERANDS
 
 
-def plain_marks(names, places):
-    """The ascending list of the plain marks of some names, with their late names, and places."""
-    return in_order(
-        [("late", name) for name in names] + [("name", name) for name in names] + [("place", place) for place in places]
-    )
-
-
-def in_order(marks):
-    """The ascending list of some plain marks, without doubles."""
-    return [
-        (kind, word)
-        for kind in KINDS
-        for word in ascending([mark[1] for mark in marks if mark[0] == kind])
-    ]
+def node_of(mark, simple, pile):
+    """The node of a mark: a function tells those of plain marks, a pile those of operations."""
+    if mark[0] != "op":
+        return simple(mark)
+    return pile.given(mark[1], tuple([node_of(part, simple, pile) for part in mark[2]]))

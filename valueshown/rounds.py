@@ -1,28 +1,31 @@
 """What stands at blocks, round by round: for ways of one more block in each round."""
 
-from valueshown.expressions import Expressions
-from valueshown.leading import led_graph
-from valueshown.nodes import common, neat, numbered
-from valueshown.shapes import marks_of, opening_graph
+from valueshown.marks import node_of
+from valueshown.nodes import Overlay, Pile, common, is_within, neat
 
 
 class Rounds:
-    """For each block to which ways lead, the graphs that stand there for all ways of at most so many blocks."""
+    """For each block to which ways lead, the graphs that stand there for all ways of at most so many blocks.
 
-    def __init__(self, made):
-        self.made = made
-        self.marks = tuple(marks_of(made))
-        rounds = _rounds(made, self.marks)
-        self.many = len(rounds)
-        self._changes = _by_block(rounds)
+    `listed` has a dict for each round, from the blocks to their graphs where they
+    are not as in the round ahead; `changes` the same for each block: a list of the
+    tuples (number of the round, counted from 1 on, graph).
+    """
 
-    def last(self, block):
-        """The graph that stands at a block for ways of any length, or None."""
-        return self.up_to(block, self.many)
+    def __init__(self, course):
+        self.course = course
+        self.listed = _rounds(course)
+        self.changes = _by_block(self.listed)
+        self._piles = {}
+        self._worths = {}
+        for block, changes in self.changes.items():
+            nodes, spots = changes[-1][1]
+            self._piles[block] = Pile(nodes)
+            self._worths[block] = course.passages[block].worths(spots, self._piles[block])
 
     def up_to(self, block, most):
-        """The graph for all ways of at most so many blocks, or None if there is none."""
-        changes = self._changes.get(block, [])
+        """The graph for all ways of at most so many blocks to a block, or None if there is none."""
+        changes = self.changes.get(block, [])
         low, high = 0, len(changes)
         while low < high:
             middle = (low + high) // 2
@@ -32,95 +35,60 @@ class Rounds:
                 high = middle
         return changes[low - 1][1] if low > 0 else None
 
-    def are_always_equal(self, stop, one, other):
-        """Whether two marks are equal at a stop on all ways to its block."""
-        expressions = Expressions()
-        graph = self.last(stop[0])
-        return graph is None or self._are_equal(graph, expressions, self._pair(expressions, stop, one, other))
+    def last(self, block):
+        """The graph that stands at a block for ways of any length, or None."""
+        return self.up_to(block, len(self.listed))
 
-    def unlike_way(self, stop, one, other):
-        """A shortest way to the block of a stop on which two marks are unlike there, or None."""
-        expressions = Expressions()
-        pair = self._pair(expressions, stop, one, other)
-        most = self._first_unlike(stop[0], expressions, pair)
-        if most is None:
-            return None
-        way = [stop[0]]
-        for many in reversed(range(1, most)):
-            block, pair = self._one_back(way[-1], many, expressions, pair)
-            way.append(block)
-        return way[::-1]
+    def graph_at(self, block, counts):
+        """The graph that stands where so many rows of each lane have been done in a block; it need not be neat."""
+        return (self._piles[block].nodes, [self.spot(block, counts, mark) for mark in self.course.marks])
 
-    def _pair(self, expressions, stop, one, other):
-        """Two marks at a stop, told by what is at the beginning of its block."""
-        pair = (expressions.of(one), expressions.of(other))
-        return self._ahead(expressions, pair, stop[0], self.made.label(stop), stop[1])
+    def spot(self, block, counts, mark):
+        """The node of that graph at which a plain mark stands."""
+        return self._worths[block][self.course.passages[block].number(mark, counts)]
 
-    def _ahead(self, expressions, pair, block, label, index):
-        """Two expressions behind so many rows of a block, told by what is at its beginning."""
-        rows, made_rows = self.made.source.rows(block)[:label], self.made.rows(block)[:index]
-        return expressions.ahead(pair, self.marks, rows, made_rows)
+    def are_always_equal(self, block, counts, one, other):
+        """Whether two marks are equal on all ways to a block, where so many rows of each lane have been done."""
+        if block not in self._worths:
+            return True
+        if one[0] != "op" and other[0] != "op":
+            return self.spot(block, counts, one) == self.spot(block, counts, other)
 
-    def _are_equal(self, graph, expressions, pair):
-        """Whether two expressions are equal by a graph."""
-        spots = {mark: spot for mark, spot in zip(self.marks, graph[1])}
-        return expressions.are_equal(pair, numbered(graph[0]), spots)
+        def simple(mark):
+            return self.spot(block, counts, mark)
 
-    def _first_unlike(self, block, expressions, pair):
-        """The least number of blocks of a way on which two expressions are unlike at a block, or None."""
-        changes = self._changes.get(block, [])
-        low, high = 0, len(changes)
-        while low < high:
-            middle = (low + high) // 2
-            if self._are_equal(changes[middle][1], expressions, pair):
-                low = middle + 1
-            else:
-                high = middle
-        return changes[low][0] if low < len(changes) else None
-
-    def _one_back(self, block, many, expressions, pair):
-        """A block ahead of one where two expressions are unlike on a way of so many blocks, and the two there.
-
-        What stands at a block is common to what all blocks ahead of it lead to,
-        so that there is one if there is such a way, and the last one need not be asked.
-        """
-        ahead, earlier = block, pair
-        for ahead in self._blocks_ahead(block, many):
-            rows, made_rows = self.made.source.rows(ahead), self.made.rows(ahead)
-            earlier = self._ahead(expressions, pair, ahead, len(rows), len(made_rows))
-            if not self._are_equal(self.up_to(ahead, many), expressions, earlier):
-                break
-        return (ahead, earlier)
-
-    def _blocks_ahead(self, block, many):
-        """The list of the blocks ahead of one to which ways of at most so many blocks lead."""
-        return [
-            ahead
-            for ahead in self._changes
-            if block in self.made.source.nexts(ahead) and self.up_to(ahead, many) is not None
-        ]
+        overlay = Overlay(self._piles[block].numbers)
+        return node_of(one, simple, overlay) == node_of(other, simple, overlay)
 
 
-def _rounds(made, marks):
+def _rounds(course):
     """The list of the dicts from blocks to their graphs, for each round those that are not as in the one ahead."""
-    newest = {made.source.blocks()[0]: opening_graph(made, marks)}
+    newest = {course.source.blocks()[0]: course.first_graph}
     known = {}
     rounds = []
     while newest:
         rounds.append(newest)
         known = {**known, **newest}
-        further = {}
-        for block in newest:
-            graph = led_graph(known[block], marks, made.source.rows(block), made.rows(block))
-            for following in made.source.nexts(block):
-                earlier = further.get(following, known.get(following))
-                further[following] = neat(graph) if earlier is None else common(earlier, graph)
-        newest = {block: graph for block, graph in further.items() if graph != known.get(block)}
+        newest = _further(course, known, newest)
     return rounds
 
 
+def _further(course, known, newest):
+    """The dict from the blocks to which the newest graphs lead more than is known there to the graphs behind that."""
+    further = {}
+    for block, graph in newest.items():
+        led = course.passages[block].led(graph)
+        for following in course.source.nexts(block):
+            earlier = further.get(following, known.get(following))
+            if earlier is None:
+                further[following] = neat(led)
+            elif not is_within(led, earlier):
+                further[following] = common(earlier, led)
+    return further
+
+
 def _by_block(rounds):
-    """The dict from blocks to the lists of the tuples (number of the round, counted from 1 on, graph)."""
+    """The dict from blocks to the lists of the tuples (number of the round, graph)."""
     changes = {}
     for number, graphs in enumerate(rounds, 1):
         for block, graph in graphs.items():

@@ -1,6 +1,7 @@
 """What could be told: by which places, and operations of them, names can be shown as they are."""
 
 from valueshown.errors import BadStop, UnknownName
+from valueshown.moments import moment_at
 from valueshown.standing import Standing
 from valueshown.words import ascending, is_among, reads
 
@@ -32,7 +33,7 @@ def told_by(made, stop, name):
         raise BadStop(stop)
     if not is_among(name, made.source.names()):
         raise UnknownName(name)
-    return tellings_by_shape(Standing(made).at(stop), name)
+    return moment_at(Standing(made), stop).tellings(name)
 
 
 def can_be_told(made, stop, name):
@@ -51,45 +52,25 @@ def gone(table):
 
 def needless(table):
     """The list of the tuples (stop, name, first telling) of what a table does not show, but could tell."""
-    standing = Standing(table.made)
-    found = []
-    shapes = {}
-    for stop, name in gone(table):
-        if stop not in shapes:
-            shapes[stop] = standing.at(stop)
-        told = tellings_by_shape(shapes[stop], name)
-        if told:
-            found.append((stop, name, told[0]))
-    return found
+    return needless_by(Standing(table.made), table)
+
+
+def needless_by(standing, table):
+    """The same, by what stands in the table's made code."""
+    asked = asked_moments(standing)
+    found = [(stop, name, asked[stop].first_telling(name)) for stop, name in gone(table)]
+    return [row for row in found if row[2] is not None]
+
+
+def asked_moments(standing):
+    """The dict from the asked stops, in the order of all stops, to what stands there."""
+    return {stop: moment_at(standing, stop) for stop in asked_stops(standing.made)}
 
 
 def asked_stops(made):
     """The list of the asked stops, in the order of all stops."""
     reached = made.source.reached()
     return [stop for stop in made.all_stops() if stop[0] in reached]
-
-
-def tellings_by_shape(shape, name):
-    """The list of the tellings that hold with a name by the shape that stands at a stop.
-
-    Each node that is an operation comes from a row, so that all operations of
-    places that are equal to it are tellings.
-    """
-    nodes, stands = shape.value()
-    spots = {mark: spot for mark, spot in stands}
-    part = nodes[spots[("name", name)]]
-    found = _places_at(stands, spots[("name", name)])
-    if part[0] != "op":
-        return found
-    shown = [(part[1],)]
-    for operand in part[2]:
-        shown = [(*entry, place) for entry in shown for place in _places_at(stands, operand)]
-    return found + shown
-
-
-def _places_at(stands, spot):
-    """The ascending list of the places that stand at a node."""
-    return [mark[1] for mark, at in stands if at == spot and mark[0] == "place"]
 
 
 def _operations(made):

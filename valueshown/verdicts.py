@@ -20,13 +20,12 @@ def verdict(table, stop, name):
     entry = table.entry(stop, name)
     if entry is None:
         return "gone"
-    return _word(Standing(table.made), stop, name, entry)
+    return word_by(Standing(table.made), stop, name, entry)
 
 
 def all_words(table):
     """The list of the tuples (stop, name, word) for all that is shown."""
-    standing = Standing(table.made)
-    return [(stop, name, _word(standing, stop, name, entry)) for stop, name, entry in table.rows()]
+    return words_by(Standing(table.made), table)
 
 
 def is_truthful(table):
@@ -39,7 +38,7 @@ def least_way(table, stop, name):
     entry = table.entry(stop, name)
     if entry is None:
         return None
-    return unlike_way(Standing(table.made), stop, mark_of(entry), ("name", name))
+    return least_way_by(Standing(table.made), stop, name, entry)
 
 
 def kind_on(table, stop, name, way):
@@ -70,7 +69,31 @@ def kinds_up_to(table, stop, name, most):
 
 def wrong_return(made):
     """A shortest way to a return where the returned place does not have the returned name's value, or None."""
-    standing = Standing(made)
+    return wrong_return_by(Standing(made))
+
+
+def word_by(standing, stop, name, entry):
+    """The word for an entry that is shown, by what stands."""
+    if always(standing, stop, mark_of(entry), ("name", name)):
+        return "true"
+    if always(standing, stop, mark_of(entry), ("late", name)):
+        return "late"
+    return "untrue"
+
+
+def words_by(standing, table):
+    """The list of the tuples (stop, name, word) for all that a table shows, by what stands."""
+    return [(stop, name, word_by(standing, stop, name, entry)) for stop, name, entry in table.rows()]
+
+
+def least_way_by(standing, stop, name, entry):
+    """A shortest way on which an entry is not the source's, or None, by what stands."""
+    return unlike_way(standing, stop, mark_of(entry), ("name", name))
+
+
+def wrong_return_by(standing):
+    """A shortest way to a return whose place does not have the name's value, or None, by what stands."""
+    made = standing.made
     ways = []
     for block in made.source.blocks():
         end = made.source.end(block)
@@ -82,12 +105,3 @@ def wrong_return(made):
         return None
     least = min([len(way) for way in wrong])
     return [way for way in wrong if len(way) == least][0]
-
-
-def _word(standing, stop, name, entry):
-    """The word for an entry that is shown."""
-    if always(standing, stop, mark_of(entry), ("name", name)):
-        return "true"
-    if always(standing, stop, mark_of(entry), ("late", name)):
-        return "late"
-    return "untrue"
