@@ -73,6 +73,14 @@ def course_of(made):
     return Course(made.source, beginning(made), [rows_of(made.source, made.source), rows_of(made.source, made)])
 
 
+def course_with_entries(made):
+    """The same with a mark for each entry, which stays at what the entry is at the beginning."""
+    first = beginning(made)
+    entries = {("entry", place): first[("place", place)] for place in made.entries}
+    lanes = [rows_of(made.source, made.source), rows_of(made.source, made)]
+    return Course(made.source, {**first, **entries}, lanes)
+
+
 def course_beside(one, other):
     """The course of a source and two made codes for it; the places of the second one are `other` ones."""
     source = one.source
