@@ -27,6 +27,7 @@ class Made:
         self.source = source
         self.entries = entries
         self._codes = {block: blocks[block] for block in source.blocks()}
+        self._rows = {block: _rows_of(blocks[block]) for block in source.blocks()}
         self._labels = {block: labels[block] for block in source.blocks()}
         self._lies = {name: lies[name] for name in source.inputs}
         self._places = _places_in(self._codes, self._lies, entries)
@@ -43,7 +44,8 @@ class Made:
 
     def rows(self, block):
         """The tuple of the rows of a block, without the return."""
-        return _rows_of(self._code(block))
+        self._code(block)
+        return self._rows[block]
 
     def returned(self, block):
         """The place that a block returns, or None."""

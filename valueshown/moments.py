@@ -9,6 +9,10 @@ class Moment:
     def __init__(self, marks, graph):
         self._nodes = graph[0]
         self._spots = {mark: spot for mark, spot in zip(marks, graph[1])}
+        self._homes = {}
+        for mark, spot in self._spots.items():
+            if mark[0] == "place":
+                self._homes.setdefault(spot, []).append(mark[1])
 
     def tells(self, entry, name):
         """Whether what an entry shows is always the value of a name."""
@@ -48,7 +52,7 @@ class Moment:
 
     def _places_at(self, spot):
         """The list of the places that stand at a node, in the order of the marks."""
-        return [mark[1] for mark, at in self._spots.items() if at == spot and mark[0] == "place"]
+        return list(self._homes.get(spot, []))
 
 
 def moment_at(standing, stop):

@@ -19,6 +19,7 @@ class Source:
         self._blocks = tuple([entry[0] for entry in blocks])
         self._parts = {name: (rows, end) for name, rows, end in blocks}
         self._names = _names_in(blocks, self.inputs)
+        self._reached = _reached_from(self)
 
     def __contains__(self, x):
         return is_among(x, self._parts)
@@ -64,13 +65,18 @@ class Source:
 
     def reached(self):
         """The list of the blocks to which ways lead, by fewest blocks, then as ends lead to them."""
-        found = [self._blocks[0]]
-        done = 0
-        while done < len(found):
-            further = [block for block in self.nexts(found[done]) if block not in found]
-            done += 1
-            found.extend(further)
-        return found
+        return list(self._reached)
+
+
+def _reached_from(source):
+    """The tuple of the blocks to which ways lead, each block ahead of those that are first reached from it."""
+    found = source.blocks()[:1]
+    done = 0
+    while done < len(found):
+        further = [block for block in source.nexts(found[done]) if block not in found]
+        done += 1
+        found.extend(further)
+    return tuple(found)
 
 
 def _names_in(blocks, inputs):

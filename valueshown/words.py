@@ -1,6 +1,5 @@
 """Names, rows and ends: what they are, and what rows read and set."""
 
-LETTERS = "abcdefghijklmnopqrstuvwxyz"
 MOST_LETTERS = 8
 MOST_OPERANDS = 2
 
@@ -30,7 +29,7 @@ def is_name(value):
     """Whether any value is a name."""
     if not isinstance(value, str) or not 1 <= len(value) <= MOST_LETTERS:
         return False
-    return all([letter in LETTERS for letter in value])
+    return value.isascii() and value.isalpha() and value.islower()
 
 
 def are_unlike_names(value):
