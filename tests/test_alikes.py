@@ -174,6 +174,22 @@ class BesideTest(unittest.TestCase):
         first = Table(made, [(A0, "i", "r")])
         self.assertTrue(Beside(first, first).is_alike())
 
+    def test_inputs_and_entries_side_by_side(self):
+        source = Source([("a", (), ("go", "a"))], ["i", "j", "k"])
+        one = Made(source, {"a": ()}, {"a": (0,)}, {"i": "p", "j": "q", "k": "r"}, entries=("d", "e"))
+        other = Made(source, {"a": ()}, {"a": (0,)}, {"i": "e", "j": "s", "k": "p"}, entries=("q", "r", "d"))
+        for made, beside in ((one, other), (other, one), (one, one), (other, other)):
+            for place in made.places():
+                for there in beside.places():
+                    tables = [Table(made, [(A0, "i", place)]), Table(beside, [(A0, "i", there)])]
+                    both = [
+                        [name for name in "ijk" if table.made.place_of(name) == shown]
+                        for table, shown in zip(tables, (place, there))
+                    ]
+                    alike = both[0] == both[1] != []
+                    self.assertTrue(Beside(*tables).is_alike() is alike, (place, there))
+                    self.assertTrue(Beside(*tables).parts("a", 0, "i", ["a"]) is not alike)
+
     def test_the_fewest_blocks_then_the_first(self):
         source = Source([
             ("a", (), ("either", "b", "c")), ("b", (), ("go", "d")), ("c", (), ("go", "c")), ("d", (), ("return", "x")),

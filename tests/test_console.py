@@ -8,7 +8,9 @@ from tests.test_standing import lattice
 from tests.values import ODD_VALUES, doc_made, ring_made, unreached_made
 from valueshown.console import Console
 from valueshown.errors import BadLine, BadShown, BadStop, NothingToUndo, TooMany, UnknownBlock, UnknownName, Untrue
+from valueshown.made import Made
 from valueshown.sessions import Session
+from valueshown.sources import Source
 from valueshown.stepping import longest_stepping
 from valueshown.telling import gone, is_asked, needless, told_by
 from valueshown.truest import lies
@@ -174,6 +176,30 @@ class LinesTest(unittest.TestCase):
                 console.run(f"at a {word}")
             self.assertEqual(caught.exception.stop, ("a", int(word)))
         self.assertEqual((console.run("at a 0"), console.run("at a 1")), ("-", "-"))
+
+    def test_words_that_begin_lines_are_names_too(self):
+        words = ("show", "hide", "undo", "at", "told", "gone", "lies", "stepping")
+        rows = (("set", "gone", "lies", ("undo",)), ("copy", "lies", "undo"))
+        source = Source([("undo", rows, ("go", "at")), ("at", (), ("go", "undo"))], ["undo", "at"])
+        console = Console(Made.plain(source))
+        changes = len(console.session)
+        for word in words:
+            for line in (f"show undo 0 gone {word}", f"show undo 0 {word} at"):
+                try:
+                    self.assertEqual(console.run(line), "ok")
+                    changes += 1
+                except (BadShown, UnknownName):
+                    self.assertFalse(word in source.names())
+                self.assertEqual(len(console.session), changes)
+        for word in words:
+            if word in source.names():
+                told = told_by(Made.plain(source), ("undo", 0), word)
+                self.assertEqual(console.run(f"told undo 0 {word}"), " ".join(map(text_of, told)))
+                self.assertEqual(console.run(f"stepping at {word}"), "0")
+        self.assertEqual(console.run("told undo 2 gone"), "gone lies(lies) lies(undo)")
+        self.assertEqual(console.run("stepping undo undo"), "0 1 2")
+        self.assertEqual(console.run("told undo 0 undo"), "undo")
+        self.assertEqual(console.run("told undo 2 lies"), "lies undo")
 
     def test_in_trials(self):
         console = Console(doc_made())

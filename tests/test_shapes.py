@@ -7,6 +7,7 @@ from tests.brute import NAMES, random_mark, some_made, terms_at, term_of, value_
 from tests.values import ODD_VALUES, LikeAll, doc_made, ring_made
 from valueshown.errors import BadMark, BadShape, TooMany
 from valueshown.made import Made
+from valueshown.nodes import Overlay, numbered
 from valueshown.shapes import Shape, marks_of
 from valueshown.sources import Source
 
@@ -306,6 +307,19 @@ class CommonTest(unittest.TestCase):
         self.assertTrue(long <= long)
         self.assertEqual(len(long & shape(chain(20000, NOTHING), (P, 19999))), 20000)
         self.assertEqual(len(long & shape(chain(100), (P, 99))), 100)
+
+
+class NumbersTest(unittest.TestCase):
+    def test_what_is_no_node_has_numbers_of_its_own(self):
+        nodes = [OPEN, op("f", 0), NOTHING, op("g", 0, 1)]
+        for many in range(len(nodes) + 1):
+            overlay = Overlay(numbered(nodes[:many]))
+            found = [overlay.opened(), overlay.given("h", ()), overlay.opened(), overlay.opened(), overlay.given("h", (0,))]
+            self.assertEqual(len(set(found)), 5)
+            self.assertTrue(max(found) < 0)
+            self.assertEqual(overlay.given("h", ()), found[1])
+            self.assertEqual(overlay.given("f", (0,)) == 1, many > 1)
+            self.assertEqual(overlay.given("g", (0, 1)) == 3, many > 3)
 
 
 class OpeningTest(unittest.TestCase):

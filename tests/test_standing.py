@@ -3,7 +3,7 @@
 import random
 import unittest
 
-from tests.brute import random_mark, some_made, term_of, terms_at, value_of_ways, walks_to
+from tests.brute import random_made, random_mark, random_source, some_made, term_of, terms_at, value_of_ways, walks_to
 from tests.values import ODD_VALUES, LikeAll, doc_made, ring_made
 from valueshown.errors import BadMark, BadStop, BadWay, TooMany, UnknownBlock
 from valueshown.leads import led, led_to
@@ -237,6 +237,46 @@ class AlwaysTest(unittest.TestCase):
                         self.assertTrue(unlike or len(way) > MOST)
                         self.check_unlike(made, stop, one, other, way)
         self.assertTrue(long > 5)
+
+    def test_one_way_of_four(self):
+        # Of two ways twice, on one alone the places that are asked about have unlike values.
+        ends = [("a", ("either", "b", "c")), ("b", ("go", "d")), ("c", ("go", "d")), ("d", ("either", "e", "f")),
+                ("e", ("go", "g")), ("f", ("go", "g")), ("g", ("go", "g"))]
+        source = Source([(block, (), end) for block, end in ends])
+        same = (("copy", "s", "r"),), (("copy", "p", "q"),)
+        moved = (("copy", "s", "t"),), (("copy", "p", "r"), ("copy", "q", "s"))
+        for first in "bc":
+            for second in "ef":
+                rows = {block: () for block in source.blocks()}
+                for block in "bcef":
+                    rows[block] = (moved if block in (first, second) else same)[block in "ef"]
+                labels = {block: (0,) * (len(some) + 1) for block, some in rows.items()}
+                standing = Standing(Made(source, rows, labels, {}, entries=("p", "q", "r", "s", "t")))
+                way = ["a", first, "d", second, "g"]
+                self.assertEqual(unlike_way(standing, ("g", 0), place("p"), place("q")), way)
+                self.assertEqual(unlike_way(standing, ("g", 0), op("f", place("q")), op("f", place("p"))), way)
+
+    def test_where_many_blocks_lead_to_many(self):
+        rng = random.Random(9)
+        long = 0
+        for _ in range(60):
+            made = random_made(rng, random_source(rng, 8, 3))
+            standing = Standing(made)
+            marks = marks_of(made)
+            for stop in made.all_stops():
+                for _ in range(6):
+                    one, other = random_mark(rng, marks, 1), random_mark(rng, marks, 1)
+                    way = unlike_way(standing, stop, one, other)
+                    if way is not None:
+                        long += len(way) > 5
+                        self.check_unlike(made, stop, one, other, way)
+                        if len(way) > 1 and stop[1] == made.label(stop) == 0:
+                            shape = standing.up_to(stop[0], len(way))
+                            self.assertFalse(shape.holds(one, other))
+                            least = len(shortest(made.source, stop[0]))
+                            if len(way) > least:
+                                self.assertTrue(standing.up_to(stop[0], len(way) - 1).holds(one, other))
+        self.assertTrue(long > 10, long)
 
     def check_unlike(self, made, stop, one, other, way):
         self.assertEqual(type(way), list)

@@ -50,7 +50,14 @@ class Beside:
 
     def is_alike(self):
         """Whether they do not part."""
-        return self.parting() is None
+        questions = self._questions()
+        if any([None in question[4:] for question in questions]):
+            return False
+        rounds = Rounds(course_beside(self._one.made, self._other.made))
+        return all([
+            rounds.are_always_equal(block, counts, mark_of(shown), _beside(mark_of(other)))
+            for block, _, _, counts, shown, other in questions
+        ])
 
     def parts(self, block, label, name, way):
         """Whether any four values tell that they part so, by playing both along the way."""
